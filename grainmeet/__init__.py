@@ -1,0 +1,1 @@
+"""Turned copies of the whole grid of space, and the points they share."""
