@@ -1,4 +1,4 @@
-"""The rules of LANGUAGE.md that can be seen in the files without judgement."""
+"""Some rules of LANGUAGE.md that the files show plainly; it does not cover all of them."""
 
 import ast
 import builtins
