@@ -1,13 +1,13 @@
 """Fours: their construction, arithmetic, content and units."""
 
 import itertools
-import random
 import unittest
 from fractions import Fraction
 from unittest import mock
 
 from grainmeet.errors import InvalidFour, InvalidNumber
 from grainmeet.fours import Four
+from samples import is_four, small_fours, some_fours
 
 ZERO = Four(0, 0, 0, 0)
 ONE = Four(2, 0, 0, 0)
@@ -36,27 +36,6 @@ def product_by_table(one, other):
             sign, target = TABLE[at][place]
             result[target] += sign * first * second
     return result
-
-
-def is_four(halves):
-    return len({half % 2 for half in halves}) == 1
-
-
-def small_fours(bound):
-    """All fours whose halves are from -bound to bound."""
-    span = range(-bound, bound + 1)
-    return [Four(*halves) for halves in itertools.product(span, repeat=4) if is_four(halves)]
-
-
-def some_fours(seed, many, most=10 ** 9 - 3):
-    """Fours with halves of all lengths, even ones and odd ones."""
-    source = random.Random(seed)
-    found = []
-    while len(found) < many:
-        bound = source.choice((1, 3, 10, 1000, most // 2))
-        rest = source.randint(0, 1)
-        found.append(Four(*[2 * source.randint(-bound, bound) + rest for place in range(4)]))
-    return found
 
 
 SAMPLE = small_fours(1) + some_fours(11, 40)
