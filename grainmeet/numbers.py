@@ -66,6 +66,18 @@ def primes_of(number):
     return primes
 
 
+def least_prime(number):
+    """The least prime that divides a number, which is greater than 1."""
+    if number % 2 == 0:
+        return 2
+    prime = 3
+    while prime * prime <= number:
+        if number % prime == 0:
+            return prime
+        prime += 2
+    return number
+
+
 def divisors(number):
     """The list of all positive divisors in ascending order."""
     found = [1]

@@ -2,6 +2,7 @@
 
 import ast
 import builtins
+import itertools
 import re
 import unittest
 from pathlib import Path
@@ -23,6 +24,8 @@ BARRED_WORDS = re.compile(
 BARRED_NODES = (
     ast.Global, ast.AsyncFunctionDef, ast.AsyncFor, ast.AsyncWith, ast.Await, ast.Import, ast.Div, ast.MatMult,
 )
+LAZY = ("zip", "enumerate", "reversed", "range", "iter")
+LIST_TAKERS = ("sum", "min", "max", "sorted", "any", "all")
 
 
 class Language(unittest.TestCase):
@@ -86,6 +89,93 @@ class Language(unittest.TestCase):
                 self.assertFalse(node.arg.startswith("_") or hasattr(builtins, node.arg), place)
             elif isinstance(node, ast.Attribute):
                 self.assertFalse(node.attr.startswith("_") and node.attr != "__init__", place)
+
+    def test_lazy_calls_are_iterated_on_the_spot(self):
+        for place, node in self.each_node():
+            if isinstance(node, (ast.Assign, ast.Return)) and isinstance(node.value, ast.Call):
+                self.assertNotIn(getattr(node.value.func, "id", ""), LAZY, place)
+                self.assertNotIn(getattr(node.value.func, "attr", ""), ("items", "keys", "values"), place)
+
+    def test_lists_instead_of_generator_expressions(self):
+        for place, node in self.each_node():
+            if isinstance(node, ast.Call) and getattr(node.func, "id", "") in LIST_TAKERS:
+                self.assertFalse(any(isinstance(one, ast.GeneratorExp) for one in node.args), place)
+
+    def test_stars_in_calls(self):
+        for place, node in self.each_node():
+            if isinstance(node, ast.Call):
+                for one in node.args:
+                    if isinstance(one, ast.Starred):
+                        self.assertIsInstance(one.value, ast.Name, place)
+
+    def test_local_names_are_no_imports_or_classes(self):
+        for name, tree in self.each_tree():
+            taken = {alias.name for node in tree.body if isinstance(node, ast.ImportFrom) for alias in node.names}
+            taken |= {node.name for node in tree.body if isinstance(node, ast.ClassDef)}
+            for node in ast.walk(tree):
+                place = f"{name}:{getattr(node, 'lineno', 0)}"
+                if isinstance(node, ast.Name) and isinstance(node.ctx, ast.Store):
+                    self.assertNotIn(node.id, taken, place)
+                elif isinstance(node, ast.arg):
+                    self.assertNotIn(node.arg, taken, place)
+
+    def test_one_binding_at_module_level(self):
+        for name, tree in self.each_tree():
+            bound = []
+            for node in tree.body:
+                if isinstance(node, ast.ImportFrom):
+                    bound.extend(alias.name for alias in node.names)
+                elif isinstance(node, (ast.FunctionDef, ast.ClassDef)):
+                    bound.append(node.name)
+                elif isinstance(node, ast.Assign):
+                    bound.extend(target.id for target in node.targets)
+                else:
+                    self.assertIsInstance(node, ast.Expr, name)
+            self.assertEqual(sorted(set(bound)), sorted(bound), name)
+
+    def test_imports_name_the_defining_file_and_make_no_circle(self):
+        trees = {f"grainmeet.{name.removesuffix('.py')}": tree for name, tree in self.each_tree()}
+        after = {}
+        for name, tree in trees.items():
+            imports = [node for node in tree.body if isinstance(node, ast.ImportFrom)]
+            after[name] = {node.module for node in imports}
+            for node in imports:
+                defined = {getattr(one, "name", "") for one in trees[node.module].body}
+                defined |= {one.targets[0].id for one in trees[node.module].body if isinstance(one, ast.Assign)}
+                for alias in node.names:
+                    self.assertIn(alias.name, defined, name)
+                    self.assertIsNone(alias.asname, name)
+        while after:
+            free = [name for name, needed in after.items() if not needed & set(after)]
+            self.assertTrue(free, f"a circle among {sorted(after)}")
+            after = {name: needed for name, needed in after.items() if name not in free}
+
+    def test_methods_attributes_properties_and_generators_have_names_of_their_own(self):
+        plain, static, properties, stored, functions, generators = set(), set(), set(), set(), [], []
+        for place, node in self.each_node():
+            if isinstance(node, ast.Attribute) and isinstance(node.ctx, ast.Store):
+                stored.add(node.attr)
+            if isinstance(node, ast.FunctionDef):
+                functions.append(node.name)
+                if any(isinstance(one, (ast.Yield, ast.YieldFrom)) for one in ast.walk(node)):
+                    generators.append(node.name)
+            if isinstance(node, ast.ClassDef):
+                for one in node.body:
+                    if isinstance(one, ast.FunctionDef):
+                        marks = [getattr(mark, "id", "") for mark in one.decorator_list]
+                        kind = static if "staticmethod" in marks else properties if "property" in marks else plain
+                        kind.add(one.name)
+        for one, other in itertools.combinations((plain, static, properties, stored), 2):
+            self.assertEqual(one & other, set())
+        builtin = {name for kind in (str, int, list, dict, set, bytes, tuple) for name in dir(kind)}
+        self.assertEqual((static | properties | stored) & builtin, set())
+        for name in generators:
+            self.assertEqual(functions.count(name), 1, name)
+
+    def test_caught_errors_are_own_ones(self):
+        for place, node in self.each_node():
+            if isinstance(node, ast.ExceptHandler):
+                self.assertIn(node.type.id, ("ParseError",), place)
 
 
 if __name__ == "__main__":
