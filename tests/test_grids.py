@@ -77,6 +77,13 @@ class Points(unittest.TestCase):
             for bound in (0, 1, 2, 5, 7):
                 self.assertEqual(list(grid.points(bound)), box_of(bound, grains))
 
+    def test_points_in_wide_steps(self):
+        wide = [pair for pair in itertools.combinations(grains_at(9), 2) if shared(*pair).basis()[0][0] > 1]
+        steps = [shared(*pair).basis() for pair in wide]
+        self.assertIn([(3, 2, 5), (0, 3, 3), (0, 0, 9)], steps)
+        for pair in wide[::6]:
+            self.assertEqual(list(shared(*pair).points(12)), box_of(12, pair))
+
     def test_points_of_all_bounds(self):
         grains = [grains_at(15)[9]]
         grid = shared(*grains)
