@@ -2,7 +2,7 @@
 
 from grainmeet.errors import ParseError, UnknownName
 from grainmeet.fours import Four, four_text
-from grainmeet.turns import Turn
+from grainmeet.turns import turn_with
 
 MOST_WORDS = 40
 LONGEST_NAME = 8
@@ -97,8 +97,7 @@ def evaluate(product, turns):
     if kind == "name":
         return named_turn(product[1], turns)
     if kind == "four":
-        halves = product[1]
-        return Turn(Four(*halves))
+        return turn_with(product[1])
     if kind == "back":
         return -evaluate(product[1], turns)
     return evaluate(product[1], turns) * evaluate(product[2], turns)

@@ -30,7 +30,7 @@ class Turn:
     @staticmethod
     def cube():
         """The list of the turns with spread 1, in ascending order of the halves of their fours."""
-        return [Turn(Four(*halves)) for halves in CUBE]
+        return [turn_with(halves) for halves in CUBE]
 
     @staticmethod
     def read(text):
@@ -91,6 +91,11 @@ class Turn:
 
     def __repr__(self):
         return f"Turn({self.lead.text()})"
+
+
+def turn_with(halves):
+    """The turn of the four with these halves."""
+    return Turn(Four(*halves))
 
 
 def lead_of(four):

@@ -18,6 +18,11 @@ FUNCTIONS = {
              "is_between(one, other, grain)", "midst(one, two, three)", "is_midst(one, two, three, grain)"],
     "grids": ["shared(*grains)"],
     "products": ["is_name(text)", "read_product(text)", "product_text(product)", "evaluate(product, turns)"],
+    "code": ["compiled(product)", "run(code, turns)", "shortened(code)", "depth(code)"],
+    "conditions": ["names_in(condition)", "holds(condition, grains, point)", "fraction(condition, grains)",
+                   "same(one, other, grains)", "witness(one, other, grains)", "read_condition(text)",
+                   "condition_text(condition)"],
+    "blocks": [],
 }
 CLASSES = {
     ("fours", "Four"): ["whole(number)", "units()", "read(text)", "mirrored(self)", "content(self)", "text(self)",
@@ -28,18 +33,25 @@ CLASSES = {
                           "turned(self, turn)", "__init__(self, turn)"],
     ("grids", "Grid"): ["whole()", "basis(self)", "within(self, other)", "narrowed(self, grain)",
                         "points(self, bound)"],
+    ("blocks", "Block"): ["__init__(self, *, limit=10000)", "widest(self)", "share(self)", "change_limit(self, limit)",
+                          "names(self)", "grain(self, name)", "grains(self)", "marks(self)", "homes(self, point)",
+                          "spread_of(self, one, other)", "apply(self, command)", "apply_all(self, *commands)",
+                          "undo(self)", "redo(self)", "history(self)", "commands(self)", "twin(self)"],
+    ("blocks", "PlainBlock"): ["__init__(self, *, limit=10000)"],
 }
 PROPERTIES = {
     ("fours", "Four"): ["halves", "size"],
     ("turns", "Turn"): ["four", "spread"],
     ("grains", "Grain"): ["four", "turn", "spread"],
     ("grids", "Grid"): ["one_in"],
+    ("blocks", "Block"): ["limit", "busy"],
 }
 OPERATORS = {
     ("fours", "Four"): ["__add__", "__sub__", "__mul__", "__neg__", "__bool__", "__eq__", "__repr__"],
     ("turns", "Turn"): ["__mul__", "__neg__", "__eq__", "__repr__"],
     ("grains", "Grain"): ["__contains__", "__eq__", "__repr__"],
     ("grids", "Grid"): ["__contains__", "__eq__", "__repr__"],
+    ("blocks", "Block"): ["__len__"],
 }
 GENERATORS = [("listing", "near"), ("ways", "between")]
 

@@ -24,6 +24,7 @@ BARRED_WORDS = re.compile(
 BARRED_NODES = (
     ast.Global, ast.AsyncFunctionDef, ast.AsyncFor, ast.AsyncWith, ast.Await, ast.Import, ast.Div, ast.MatMult,
 )
+OWN_ERRORS = [node.name for node in ast.parse((PACKAGE / "errors.py").read_text()).body if hasattr(node, "bases")]
 LAZY = ("zip", "enumerate", "reversed", "range", "iter")
 LIST_TAKERS = ("sum", "min", "max", "sorted", "any", "all")
 
@@ -151,7 +152,7 @@ class Language(unittest.TestCase):
             after = {name: needed for name, needed in after.items() if name not in free}
 
     def test_methods_attributes_properties_and_generators_have_names_of_their_own(self):
-        plain, static, properties, stored, functions, generators = set(), set(), set(), set(), [], []
+        plain, static, properties, stored, settable, functions, generators = set(), set(), set(), set(), set(), [], []
         for place, node in self.each_node():
             if isinstance(node, ast.Attribute) and isinstance(node.ctx, ast.Store):
                 stored.add(node.attr)
@@ -162,9 +163,12 @@ class Language(unittest.TestCase):
             if isinstance(node, ast.ClassDef):
                 for one in node.body:
                     if isinstance(one, ast.FunctionDef):
-                        marks = [getattr(mark, "id", "") for mark in one.decorator_list]
-                        kind = static if "staticmethod" in marks else properties if "property" in marks else plain
+                        marks = [getattr(mark, "id", getattr(mark, "attr", "")) for mark in one.decorator_list]
+                        kind = properties if {"property", "setter"} & set(marks) else static if marks else plain
                         kind.add(one.name)
+                        if "setter" in marks:
+                            settable.add(one.name)
+        stored -= settable
         for one, other in itertools.combinations((plain, static, properties, stored), 2):
             self.assertEqual(one & other, set())
         builtin = {name for kind in (str, int, list, dict, set, bytes, tuple) for name in dir(kind)}
@@ -175,7 +179,9 @@ class Language(unittest.TestCase):
     def test_caught_errors_are_own_ones(self):
         for place, node in self.each_node():
             if isinstance(node, ast.ExceptHandler):
-                self.assertIn(node.type.id, ("ParseError",), place)
+                caught = node.type.elts if isinstance(node.type, ast.Tuple) else [node.type]
+                for one in caught:
+                    self.assertIn(one.id, OWN_ERRORS, place)
 
 
 if __name__ == "__main__":

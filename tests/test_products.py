@@ -8,9 +8,8 @@ from grainmeet.errors import ParseError, UnknownName
 from grainmeet.fours import Four
 from grainmeet.products import evaluate, is_name, product_text, read_product
 from grainmeet.turns import Turn
-from samples import applied, fractions_of, some_points, table_of
+from samples import all_products, applied, fractions_of, some_points, some_product, table_of
 
-LEAVES = (("name", "a"), ("name", "zebra"), ("four", (2, 4, 0, 0)), ("four", (1, -3, 1, 1)), ("four", (-4, 0, 0, 0)))
 WORDS = {
     "a": "a", "zebra": "zebra", (2, 4, 0, 0): "[1+2i]", (1, -3, 1, 1): "[1/2-3/2i+1/2j+1/2k]", (-4, 0, 0, 0): "[-2]",
 }
@@ -49,24 +48,6 @@ REFUSED = {
     "-a": 0, "- a": 0, "a '' b": 1, "a **": 1, "()": 0, "[a]": 0, "123": 0, "[12": 0, "12]": 0, "(1)": 0, "a * (1]": 2,
     "a * [i)": 2,
 }
-
-
-def all_products(levels):
-    """All products of at most so many levels over few leaves."""
-    found = list(LEAVES[:3])
-    for level in range(levels - 1):
-        longer = [("back", one) for one in found] + [("times", one, other) for one in found for other in found]
-        found = list(LEAVES[:3]) + longer
-    return found
-
-
-def some_product(source, levels):
-    """A product of at most so many levels over all leaves."""
-    kind = source.choice(("leaf", "back", "times", "times")) if levels > 1 else "leaf"
-    if kind == "leaf":
-        return source.choice(LEAVES)
-    many = 1 if kind == "back" else 2
-    return (kind, *[some_product(source, levels - 1) for place in range(many)])
 
 
 def words_of(product):
