@@ -112,6 +112,12 @@ def digits_of(number):
     return "".join(pieces[::-1])
 
 
+def integer_text(number):
+    """The digits of an integer, with a sign before those of a negative one."""
+    sign = "-" if number < 0 else ""
+    return f"{sign}{digits_of(abs(number))}"
+
+
 def are_digits(text):
     """Whether a text consists of digits, at least one."""
     return text.isascii() and text.isdigit()

@@ -350,3 +350,50 @@ def some_tuple(source):
     if source.randint(0, 24):
         return command
     return source.choice(((), command[:-1], command + (1,), ("place", *command[1:]), ("", "a"), ("PUT", "a", (2, 0, 0, 0))))
+
+
+# The kinds of the words behind the first one in the text of each command.
+KINDS = {
+    "put": "name four", "drop": "name", "turn": "name four", "lean": "name int int int int", "swap": "name name",
+    "midst": "name name name name", "mark": "int int int", "unmark": "int int int",
+}
+WORDS = ("", "a", "ann", "A", "put", "drop", "mark", "1", "-1", "0", "-0", "007", "+2", "2+i", "i+2", "1i", "1/2", "block")
+
+
+def model_text(command):
+    """The text of a command by the words of the document."""
+    words = []
+    for value in command[1:]:
+        if isinstance(value, str):
+            words.append(value)
+        elif isinstance(value, int):
+            words.append(str(value))
+        elif command[0] in ("put", "turn"):
+            words.append(Four(*value).text())
+        else:
+            words.extend(map(str, value))
+    return " ".join([command[0], *words])
+
+
+def changed(source, text, more):
+    """A text with one change: a piece between two spaces removed, repeated, moved, joined or replaced."""
+    words = text.split(" ")
+    at = source.randrange(len(words))
+    kind = source.choice(("remove", "repeat", "replace", "insert", "move", "join", "sign", "cut"))
+    if kind == "remove":
+        del words[at]
+    elif kind == "repeat":
+        words.insert(at, words[at])
+    elif kind == "replace":
+        words[at] = source.choice(more)
+    elif kind == "insert":
+        words.insert(source.randint(0, len(words)), source.choice(more))
+    elif kind == "move":
+        words.insert(source.randrange(len(words)), words.pop(at))
+    elif kind == "join":
+        words[at:at + 2] = ["".join(words[at:at + 2])]
+    elif kind == "sign":
+        words[at] = source.choice("+-0") + words[at]
+    else:
+        words[at] = words[at][:source.randint(0, len(words[at]))]
+    return " ".join(words)

@@ -23,6 +23,10 @@ FUNCTIONS = {
                    "same(one, other, grains)", "witness(one, other, grains)", "read_condition(text)",
                    "condition_text(condition)"],
     "blocks": [],
+    "trials": ["attempt(block, *commands)", "first_refused(block, *commands)"],
+    "pages": ["command_text(command)", "read_command(text)", "format_block(block)", "read_block(text)"],
+    "desks": [],
+    "tables": ["table(block)"],
 }
 CLASSES = {
     ("fours", "Four"): ["whole(number)", "units()", "read(text)", "mirrored(self)", "content(self)", "text(self)",
@@ -38,6 +42,7 @@ CLASSES = {
                           "spread_of(self, one, other)", "apply(self, command)", "apply_all(self, *commands)",
                           "undo(self)", "redo(self)", "history(self)", "commands(self)", "twin(self)"],
     ("blocks", "PlainBlock"): ["__init__(self, *, limit=10000)"],
+    ("desks", "Desk"): ["__init__(self, *, block=None)", "block(self)", "ask(self, line)"],
 }
 PROPERTIES = {
     ("fours", "Four"): ["halves", "size"],

@@ -21,6 +21,11 @@ BARRED_WORDS = re.compile(
     r"\b(type|typing|typing_extensions|enum|Enum|IntEnum|StrEnum|Flag|IntFlag|Generic|Protocol|ABC|ABCMeta"
     r"|namedtuple|NamedTuple|TypedDict|TYPE_CHECKING|abstractmethod)\b|dataclass|overload|contextmanager"
 )
+BARRED_NAMES = set(
+    "register mro elements open input law version_info with_traceback add_note attrgetter breakpoint builtins compile"
+    " copyright credits delattr dir eval exec exit gc getattr globals hasattr help id importlib license locals"
+    " methodcaller os quit setattr super type vars sys".split()
+)
 BARRED_NODES = (
     ast.Global, ast.AsyncFunctionDef, ast.AsyncFor, ast.AsyncWith, ast.Await, ast.Import, ast.Div, ast.MatMult,
 )
@@ -90,6 +95,16 @@ class Language(unittest.TestCase):
                 self.assertFalse(node.arg.startswith("_") or hasattr(builtins, node.arg), place)
             elif isinstance(node, ast.Attribute):
                 self.assertFalse(node.attr.startswith("_") and node.attr != "__init__", place)
+
+    def test_barred_names(self):
+        for place, node in self.each_node():
+            for field in ("id", "arg", "name", "attr"):
+                self.assertNotIn(getattr(node, field, None), BARRED_NAMES, place)
+
+    def test_is_stands_beside_none_only(self):
+        for place, node in self.each_node():
+            if isinstance(node, ast.Compare) and any(isinstance(sign, (ast.Is, ast.IsNot)) for sign in node.ops):
+                self.assertEqual([getattr(one, "value", 0) for one in node.comparators], [None], place)
 
     def test_lazy_calls_are_iterated_on_the_spot(self):
         for place, node in self.each_node():

@@ -6,7 +6,7 @@ import unittest
 
 from grainmeet.errors import InvalidNumber
 from grainmeet.numbers import (
-    are_digits, common, digits_of, divisors, factor, inverse, is_number, number_with, primes_of,
+    are_digits, common, digits_of, divisors, factor, integer_text, inverse, is_number, number_with, primes_of,
 )
 
 MOST = 10 ** 9
@@ -161,6 +161,11 @@ class Digits(unittest.TestCase):
         self.assertEqual(digits_of(10 ** 9000), "1" + "0" * 9000)
         self.assertEqual(digits_of(10 ** 9000 - 1), "9" * 9000)
         self.assertEqual(number_with("1" + "0" * 9000), 10 ** 9000)
+
+    def test_integers_of_both_signs(self):
+        for number in (0, 1, -1, 10, -10, 10 ** 64, -10 ** 64, 1 - 10 ** 64, 10 ** 300):
+            self.assertEqual(integer_text(number), str(number))
+        self.assertEqual(integer_text(-10 ** 9000), "-1" + "0" * 9000)
 
     def test_are_digits(self):
         for text in ("0", "7", "0123456789"):
